@@ -25,30 +25,6 @@ func fractions(texts ...string) vec.Vec {
 	return row
 }
 
-func TestP121Denominator(t *testing.T) {
-	for _, c := range []struct {
-		row  vec.Vec
-		want string
-	}{
-		{fractions(), "1"},
-		{fractions("0"), "1"},
-		{fractions("0", "0"), "1"},
-		{fractions("6", "-4"), "1"},
-		{fractions("1/2"), "2"},
-		{fractions("-3/2"), "2"},
-		{fractions("0", "-2/3", "0"), "3"},
-		{fractions("1/2", "1/3"), "6"},
-		{fractions("1/6", "1/4"), "12"},
-		{fractions("1/4", "5/6", "-7/10", "8"), "60"},
-		{fractions("5/12", "1/4", "1/3"), "12"},
-		{fractions("1/18446744073709551616", "1/6"), "55340232221128654848"},
-	} {
-		if got := pack.Text(denominator(c.row)); got != c.want {
-			t.Errorf("denominator of %v is %s; want %s", c.row, got, c.want)
-		}
-	}
-}
-
 // TestP121Whole looks at the rows that come of elimination: they are whole, and
 // lead with the determinant of the columns that lead.
 func TestP121Whole(t *testing.T) {

@@ -7,6 +7,7 @@ import (
 	"actuary/pack"
 	"actuary/rat"
 	"actuary/vec"
+	"actuary/whole"
 )
 
 // No answer tells whether the numbers on the way are whole, but how long the
@@ -23,29 +24,6 @@ func fractions(texts ...string) vec.Vec {
 		row = append(row, x)
 	}
 	return row
-}
-
-func TestP132Denominator(t *testing.T) {
-	for _, c := range []struct {
-		row  vec.Vec
-		want string
-	}{
-		{fractions(), "1"},
-		{fractions("0"), "1"},
-		{fractions("6", "-4", "0"), "1"},
-		{fractions("1/2"), "2"},
-		{fractions("-3/2"), "2"},
-		{fractions("0", "-2/3", "0"), "3"},
-		{fractions("1/2", "1/3"), "6"},
-		{fractions("1/6", "1/4"), "12"},
-		{fractions("1/4", "5/6", "-7/10", "8"), "60"},
-		{fractions("5/12", "1/4", "1/3"), "12"},
-		{fractions("1/18446744073709551616", "1/6"), "55340232221128654848"},
-	} {
-		if got := pack.Text(denominator(c.row)); got != c.want {
-			t.Errorf("denominator of %v is %s; want %s", c.row, got, c.want)
-		}
-	}
 }
 
 // TestP132Whole looks at what is kept of matrices in which the rows have
@@ -71,7 +49,7 @@ func TestP132Whole(t *testing.T) {
 					t.Errorf("%s at %d, %d", pack.Text(x), r, c)
 				}
 			}
-			if want := denominator(rows[f.perm[r]]); !rat.Same(f.times[r], want) {
+			if want := whole.Denominator(rows[f.perm[r]]); !rat.Same(f.times[r], want) {
 				t.Errorf("row %d is made whole by %s; want %s", r, pack.Text(f.times[r]), pack.Text(want))
 			}
 		}
